@@ -1,0 +1,235 @@
+"""The rules about the form of the code (LANGUAGE.md) that a program can check; the others are for the reader."""
+
+import ast
+import builtins
+import pathlib
+import re
+import unittest
+
+FOLDER = pathlib.Path(__file__).resolve().parent.parent / "whatpasses"
+FILES = sorted(FOLDER.rglob("*.py"))
+TREES = {path: ast.parse(path.read_text()) for path in FILES}
+
+STATEMENTS = (
+    ast.Assign, ast.AugAssign, ast.AnnAssign, ast.If, ast.While, ast.For, ast.Return, ast.Break, ast.Continue, ast.Pass,
+    ast.Raise, ast.Assert, ast.Delete, ast.Nonlocal, ast.Match, ast.With, ast.Try, ast.Expr, ast.FunctionDef,
+    ast.ClassDef, ast.ImportFrom,
+)
+BUILTINS = set(
+    "len range enumerate zip min max sum abs sorted reversed int str bool bytes list tuple dict set frozenset isinstance "
+    "ord repr any all divmod pow getattr hasattr setattr iter next map Exception ValueError TypeError KeyError "
+    "IndexError LookupError ZeroDivisionError ArithmeticError OverflowError RuntimeError NotImplementedError "
+    "AttributeError StopIteration NotImplemented property staticmethod classmethod super".split()
+)
+METHODS = set(
+    "append clear copy count endswith extend find get index insert isalnum isalpha isdigit islower isspace isupper items "
+    "join keys ljust lower lstrip partition pop remove replace reverse rfind rjust rpartition rsplit rstrip setdefault "
+    "split splitlines startswith strip update upper values zfill bit_length sort title capitalize swapcase casefold "
+    "center expandtabs removeprefix removesuffix rindex isascii isdecimal isnumeric istitle isidentifier isprintable "
+    "add discard".split()
+)
+LIBRARY = {
+    "heapq": "heappush heappop heapify heapreplace heappushpop", "math": "gcd lcm isqrt comb perm factorial",
+    "itertools": "product combinations permutations chain accumulate pairwise islice zip_longest",
+    "collections": "defaultdict", "__future__": "annotations",
+}
+NEVER = re.compile(r"\b(register|mro|elements|open|input|law|version_info|with_traceback|add_note)\b")
+BARRED = re.compile(
+    r"\b(typing|typing_extensions|enum|Enum|IntEnum|StrEnum|Flag|IntFlag|Generic|Protocol|ABC|ABCMeta|namedtuple"
+    r"|NamedTuple|TypedDict|TYPE_CHECKING|abstractmethod|_wall|_WallAttr)\b|dataclass|overload|contextmanager"
+)
+DUNDERS = set(
+    "init eq repr str len enter exit call iter lt le gt ge ne add sub mul floordiv mod pow and or xor lshift rshift neg "
+    "pos invert abs bool contains getitem setitem".split()
+)
+
+
+def nodes(kinds):
+    """Each node of one of these kinds, with where it stands."""
+    for path, tree in TREES.items():
+        for node in ast.walk(tree):
+            if isinstance(node, kinds):
+                yield node, f"{path.name}:{getattr(node, 'lineno', 0)}"
+
+
+def defined_at_module_level(path):
+    names = set()
+    for node in TREES[path].body:
+        if isinstance(node, (ast.FunctionDef, ast.ClassDef)):
+            names.add(node.name)
+        elif isinstance(node, ast.Assign):
+            names.update(target.id for target in node.targets)
+    return names
+
+
+class Files(unittest.TestCase):
+    def test_the_folder_contains_nothing_else(self):
+        for path in FOLDER.rglob("*"):
+            # What Python writes there by itself is not in the repository.
+            if "__pycache__" not in path.parts:
+                self.assertTrue(path.is_dir() or path.suffix == ".py", path)
+                self.assertRegex(path.stem, r"\A([a-z][a-z0-9_]*|__init__|__main__)\Z")
+        self.assertIn(FOLDER / "__init__.py", FILES)
+
+    def test_characters_and_sizes(self):
+        for path in FILES:
+            text = path.read_text(encoding="utf-8")
+            self.assertRegex(text, r"\A[ -~\n]*\Z", path)
+            lines = text.split("\n")
+            self.assertLessEqual(len(lines), 399, path)
+            for at, line in enumerate(lines):
+                self.assertLessEqual(len(line), 120, f"{path.name}:{at + 1}")
+
+    def test_functions_are_short(self):
+        for node, place in nodes((ast.FunctionDef, ast.Lambda)):
+            self.assertLessEqual(node.end_lineno - node.lineno + 1, 40, place)
+
+    def test_words_that_are_not_used(self):
+        for path in FILES:
+            self.assertIsNone(BARRED.search(path.read_text()), path)
+        for node, place in nodes((ast.Name, ast.Attribute, ast.arg, ast.keyword, ast.FunctionDef, ast.ClassDef)):
+            for field in ("id", "attr", "arg", "name"):
+                self.assertIsNone(NEVER.fullmatch(getattr(node, field, None) or ""), place)
+
+
+class Modules(unittest.TestCase):
+    def test_imports(self):
+        for node, place in nodes((ast.Import, ast.ImportFrom)):
+            self.assertIsInstance(node, ast.ImportFrom, place)
+            self.assertEqual(node.level, 0, place)
+            for alias in node.names:
+                if node.module in LIBRARY:
+                    self.assertIn(alias.name, LIBRARY[node.module].split(), place)
+                    continue
+                package, _, module = node.module.partition(".")
+                self.assertEqual(package, "whatpasses", place)
+                self.assertIn(alias.name, defined_at_module_level(FOLDER / (module + ".py")), place)
+
+    def test_each_import_is_used(self):
+        for path, tree in TREES.items():
+            used = {node.id for node in ast.walk(tree) if isinstance(node, ast.Name)}
+            for node in tree.body:
+                if isinstance(node, ast.ImportFrom):
+                    for alias in node.names:
+                        self.assertIn(alias.asname or alias.name, used, path)
+
+    def test_no_circle_of_imports(self):
+        needs = {path.stem: {node.module.partition(".")[2] for node in tree.body if isinstance(node, ast.ImportFrom)
+                             and node.module.startswith("whatpasses.")} for path, tree in TREES.items()}
+        while needs:
+            ready = [name for name, modules in needs.items() if not modules & set(needs)]
+            self.assertNotEqual(ready, [], sorted(needs))
+            for name in ready:
+                del needs[name]
+
+    def test_what_stands_at_module_level(self):
+        for path, tree in TREES.items():
+            for at, node in enumerate(tree.body):
+                docstring = at == 0 and isinstance(node, ast.Expr) and isinstance(node.value, ast.Constant)
+                allowed = isinstance(node, (ast.ImportFrom, ast.FunctionDef, ast.ClassDef, ast.Assign))
+                self.assertTrue(docstring or allowed, f"{path.name}:{node.lineno}")
+                if isinstance(node, ast.Assign):
+                    self.assertEqual(len(node.targets), 1)
+                    self.assertIsInstance(node.targets[0], ast.Name)
+                    calls = [inner for inner in ast.walk(node.value) if isinstance(inner, (ast.Call, ast.Lambda))]
+                    self.assertEqual(calls, [], f"{path.name}:{node.lineno}")
+
+    def test_one_binding_for_each_name(self):
+        for path, tree in TREES.items():
+            bound = []
+            for node in tree.body:
+                if isinstance(node, ast.ImportFrom):
+                    bound += [alias.asname or alias.name for alias in node.names]
+                elif isinstance(node, ast.Assign):
+                    bound += [target.id for target in node.targets]
+                elif isinstance(node, (ast.FunctionDef, ast.ClassDef)):
+                    bound.append(node.name)
+            self.assertEqual(len(bound), len(set(bound)), path)
+            taken = {node.name for node in tree.body if isinstance(node, ast.ClassDef)}
+            taken |= {alias.asname or alias.name for node in tree.body if isinstance(node, ast.ImportFrom)
+                      for alias in node.names}
+            local = {node.arg for node in ast.walk(tree) if isinstance(node, ast.arg)}
+            local |= {node.id for node in ast.walk(tree) if isinstance(node, ast.Name)
+                      and isinstance(node.ctx, ast.Store)}
+            self.assertEqual(taken & local, set(), path)
+
+
+class Code(unittest.TestCase):
+    def test_statements(self):
+        for node, place in nodes(ast.stmt):
+            self.assertIsInstance(node, STATEMENTS, place)
+
+    def test_docstrings(self):
+        for path, tree in TREES.items():
+            self.assertIsNotNone(ast.get_docstring(tree), path)
+
+    def test_builtins(self):
+        known = set(dir(builtins))
+        for node, place in nodes(ast.Name):
+            if node.id in known:
+                self.assertIn(node.id, BUILTINS, place)
+                self.assertIsInstance(node.ctx, ast.Load, place)
+        for node, place in nodes(ast.arg):
+            self.assertNotIn(node.arg, known, place)
+        for path in FILES:
+            self.assertEqual(defined_at_module_level(path) & known, set())
+
+    def test_methods_are_own_ones_or_allowed_ones(self):
+        own = {node.name for node, _ in nodes(ast.FunctionDef)}
+        for node, place in nodes(ast.Call):
+            if isinstance(node.func, ast.Attribute):
+                self.assertIn(node.func.attr, own | METHODS | {"__init__"}, place)
+
+    def test_attributes_that_are_read_are_assigned(self):
+        own = {node.name for node, _ in nodes((ast.FunctionDef, ast.ClassDef))}
+        assigned = {node.attr for node, _ in nodes(ast.Attribute) if isinstance(node.ctx, ast.Store)}
+        for node, place in nodes(ast.Attribute):
+            self.assertIn(node.attr, own | assigned | METHODS, place)
+
+    def test_decorators_and_double_underscores(self):
+        for node, place in nodes(ast.FunctionDef):
+            for decorator in node.decorator_list:
+                word = decorator.attr if isinstance(decorator, ast.Attribute) else decorator.id
+                self.assertIn(word, ("property", "setter", "staticmethod", "classmethod"), place)
+            if node.name.startswith("__"):
+                bare = node.name[2:-2]
+                plain = bare[1:] if bare[:1] in ("r", "i") and bare[1:] in DUNDERS else bare
+                self.assertIn(plain, DUNDERS, place)
+        for node, place in nodes(ast.ClassDef):
+            self.assertEqual(node.decorator_list, [], place)
+            self.assertEqual(node.keywords, [], place)
+
+    def test_numbers_and_strings(self):
+        for node, place in nodes(ast.Constant):
+            self.assertNotIsInstance(node.value, (float, complex), place)
+            if isinstance(node.value, str):
+                self.assertNotIn("%", node.value, place)
+        for node, place in nodes((ast.BinOp, ast.AugAssign)):
+            self.assertNotIsInstance(node.op, (ast.Div, ast.MatMult), place)
+
+    def test_is_stands_beside_none_and_truth_values(self):
+        for node, place in nodes(ast.Compare):
+            for sign, side in zip(node.ops, node.comparators):
+                if isinstance(sign, (ast.Is, ast.IsNot)):
+                    self.assertIsInstance(side, ast.Constant, place)
+
+    def test_no_async_no_global(self):
+        kinds = (ast.Global, ast.AsyncFunctionDef, ast.AsyncFor, ast.AsyncWith, ast.Await)
+        self.assertEqual(list(nodes(kinds)), [])
+
+
+class Generators(unittest.TestCase):
+    def test_generator_names_are_used_once(self):
+        makers = [node.name for node, _ in nodes(ast.FunctionDef)
+                  if any(isinstance(inner, (ast.Yield, ast.YieldFrom)) for inner in ast.walk(node))]
+        every = [node.name for node, _ in nodes(ast.FunctionDef)]
+        for name in makers:
+            if name == "__iter__":
+                continue
+            self.assertFalse(name.startswith("__"), name)
+            self.assertEqual(every.count(name), 1, name)
+            self.assertNotIn(name, METHODS)
+
+
+if __name__ == "__main__":
+    unittest.main()

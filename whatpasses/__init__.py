@@ -1,0 +1,1 @@
+"""Whatpasses: what a passing test suite says about an unknown part."""
