@@ -131,8 +131,9 @@ class Modules(unittest.TestCase):
                 if isinstance(node, ast.Assign):
                     self.assertEqual(len(node.targets), 1)
                     self.assertIsInstance(node.targets[0], ast.Name)
-                    calls = [inner for inner in ast.walk(node.value) if isinstance(inner, (ast.Call, ast.Lambda))]
-                    self.assertEqual(calls, [], f"{path.name}:{node.lineno}")
+                    plain = (ast.Constant, ast.Tuple, ast.List, ast.Dict, ast.Load, ast.UnaryOp, ast.USub)
+                    for inner in ast.walk(node.value):
+                        self.assertIsInstance(inner, plain, f"{path.name}:{node.lineno}")
 
     def test_one_binding_for_each_name(self):
         for path, tree in TREES.items():
@@ -216,6 +217,36 @@ class Code(unittest.TestCase):
     def test_no_async_no_global(self):
         kinds = (ast.Global, ast.AsyncFunctionDef, ast.AsyncFor, ast.AsyncWith, ast.Await)
         self.assertEqual(list(nodes(kinds)), [])
+
+
+class Members(unittest.TestCase):
+    """Methods, properties and attributes do not share names where that is barred."""
+
+    def setUp(self):
+        self.plain, self.decorated, self.attributes, self.places = set(), set(), set(), []
+        for node, place in nodes(ast.ClassDef):
+            methods = [inner for inner in node.body if isinstance(inner, ast.FunctionDef)]
+            names = {method.name for method in methods}
+            self.assertEqual(len(names), len(methods), place)
+            for method in methods:
+                (self.decorated if method.decorator_list else self.plain).add(method.name)
+            own = {inner.attr for inner in ast.walk(node) if isinstance(inner, ast.Attribute)
+                   and isinstance(inner.ctx, ast.Store)}
+            self.attributes |= own
+            self.assertEqual(names & own, set(), place)
+
+    def test_decorated_methods(self):
+        self.assertEqual(self.decorated & self.plain, set())
+        self.assertEqual(self.decorated & (self.attributes | METHODS), set())
+
+    def test_attributes_are_no_methods_of_builtin_values(self):
+        allowed = {"count", "index", "title", "find", "get", "join", "lower", "upper", "split", "strip", "copy", "add"}
+        self.assertEqual(self.attributes & (METHODS - allowed), set())
+
+    def test_classes_with_an_index_say_what_iteration_does(self):
+        for node, place in nodes(ast.ClassDef):
+            names = {inner.name for inner in node.body if isinstance(inner, ast.FunctionDef)}
+            self.assertTrue("__getitem__" not in names or "__iter__" in names, place)
 
 
 class Generators(unittest.TestCase):

@@ -7,6 +7,7 @@ import unittest
 FUNCTIONS = {
     "answers": {"is_item": "(thing)", "is_answer": "(thing)", "weight": "(answer)", "ascending": "(family, *answers)"},
     "calls": {"call_text": "(name, *values)", "is_call": "(thing)", "is_path": "(thing, *, ageing=False)"},
+    "runs": {"run": "(test, part)", "trace": "(test, part)"},
 }
 CLASSES = {
     "families": {
@@ -16,11 +17,37 @@ CLASSES = {
             "__add__": "(self, other)", "plain": "()",
         },
     },
+    "reading": {
+        "Test": {
+            "read": "(cls, text, family)", "calls": "(self)", "checks": "(self)", "__len__": "(self)",
+            "__getitem__": "(self, at)", "__str__": "(self)", "__eq__": "(self, other)", "softened": "(self, line)",
+            "stopped": "(self, line)", "biting": "(self, line)",
+        },
+    },
+    "parts": {
+        "Part": {
+            "__init__": "(self, entries=(), *, ageing=False)", "entries": "(self)", "weight": "(self)", "__len__": "(self)",
+            "__eq__": "(self, other)", "answer": "(self, *calls)", "__call__": "(self, call, before=())",
+            "__or__": "(self, other)", "steady": "(answers)",
+        },
+    },
+    "runs": {"End": {"__bool__": "(self)", "__eq__": "(self, other)"}},
+    "suites": {
+        "Suite": {
+            "__init__": "(self, family, *tests)", "read": "(cls, text)", "names": "(self)", "named": "(self, name)",
+            "__len__": "(self)", "__getitem__": "(self, at)", "__iter__": "(self)", "__str__": "(self)",
+            "__eq__": "(self, other)", "__contains__": "(self, x)", "__and__": "(self, other)",
+        },
+    },
 }
+PROPERTIES = {("Part", "entries"), ("Part", "weight")}
+CLASS_METHODS = {("Test", "read"), ("Suite", "read")}
 
 
 def signature(thing):
-    return str(inspect.signature(thing.__func__ if isinstance(thing, staticmethod) else thing))
+    if isinstance(thing, (staticmethod, classmethod)):
+        thing = thing.__func__
+    return str(inspect.signature(thing.fget if isinstance(thing, property) else thing))
 
 
 class Interface(unittest.TestCase):
@@ -39,7 +66,10 @@ class Interface(unittest.TestCase):
                 self.assertEqual(found.__module__, "whatpasses." + module)
                 for method, parameters in methods.items():
                     # Only what stands in the class itself counts.
-                    self.assertEqual(signature(vars(found)[method]), parameters, method)
+                    member = vars(found)[method]
+                    self.assertEqual(signature(member), parameters, method)
+                    self.assertEqual(isinstance(member, property), (name, method) in PROPERTIES)
+                    self.assertEqual(isinstance(member, classmethod), (name, method) in CLASS_METHODS)
 
 
 if __name__ == "__main__":

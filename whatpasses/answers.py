@@ -35,6 +35,11 @@ def weight(answer):
     return 1
 
 
+def copied(answer):
+    """The answer itself, or a new list of the same items."""
+    return list(answer) if isinstance(answer, list) else answer
+
+
 def item_key(item):
     """What an item is ordered by; the first number keeps the kinds apart."""
     if item is None:
@@ -66,5 +71,4 @@ def answer_key(places, answer):
 def ascending(family, *answers):
     """The answers in the order of answers, as a new list in which the lists are new, too."""
     places = {name: at for at, name in enumerate(family.names())}
-    copies = [list(answer) if isinstance(answer, list) else answer for answer in answers]
-    return sorted(copies, key=lambda row: answer_key(places, row))
+    return sorted([copied(answer) for answer in answers], key=lambda row: answer_key(places, row))
