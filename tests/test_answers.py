@@ -3,7 +3,7 @@
 import itertools
 import unittest
 
-from whatpasses.answers import ascending, is_answer, is_item, weight
+from whatpasses.answers import ascending, is_answer, is_item, total_weight, weight
 from whatpasses.families import Family
 
 ITEMS = (None, 0, 1, -1, 2, -2, 10 ** 39, -10 ** 39, 10 ** 5000, "", "a", "z", "none", "raises", "q" * 30)
@@ -84,6 +84,10 @@ class Answers(unittest.TestCase):
         for length in range(12):
             self.assertEqual(weight([None] * length), 1 + length)
         self.assertEqual(weight(answer=["abc", 5, None]), 4)
+
+    def test_the_weight_of_several(self):
+        self.assertEqual(total_weight([]), 0)
+        self.assertEqual(total_weight([None, 0, [], [None, None], "a", ("raises", "Error", None)]), 7)
 
 
 class Order(unittest.TestCase):

@@ -262,5 +262,59 @@ class Generators(unittest.TestCase):
             self.assertNotIn(name, METHODS)
 
 
+class Reached(unittest.TestCase):
+    """What properties and operators call, however far below; a call counts for all functions and methods of its name."""
+
+    def setUp(self):
+        self.own, self.properties, first = {}, set(), []
+        for path, tree in TREES.items():
+            for node in ast.walk(tree):
+                if isinstance(node, ast.FunctionDef):
+                    self.own.setdefault(node.name, []).append((path, node))
+                    decorators = [getattr(decorator, "id", "") for decorator in node.decorator_list]
+                    if "property" in decorators:
+                        self.properties.add(node.name)
+                    operator = node.name.startswith("__") and node.name not in ("__init__", "__call__")
+                    if operator or "property" in decorators:
+                        first.append((path, node))
+                if isinstance(node, ast.ClassDef):
+                    inits = [inner for inner in node.body if getattr(inner, "name", "") == "__init__"]
+                    self.own.setdefault(node.name, []).extend((path, inner) for inner in inits)
+        self.reached = []
+        while first:
+            path, node = first.pop()
+            if (path, node) not in self.reached:
+                self.reached.append((path, node))
+                for name in self.called(node) | self.read(node):
+                    first.extend(self.own.get(name, []))
+
+    def called(self, node):
+        calls = [inner.func for inner in ast.walk(node) if isinstance(inner, ast.Call)]
+        return {func.id if isinstance(func, ast.Name) else func.attr for func in calls}
+
+    def read(self, node):
+        return {inner.attr for inner in ast.walk(node) if isinstance(inner, ast.Attribute)} & self.properties
+
+    def test_something_is_reached(self):
+        names = {node.name for _, node in self.reached}
+        for name in ("__contains__", "weight", "run", "further", "under", "total_weight", "copied"):
+            self.assertIn(name, names)
+
+    def test_no_function_is_called_by_another_name(self):
+        others = {path: {alias.asname for node in tree.body if isinstance(node, ast.ImportFrom) for alias in node.names}
+                  - {None} for path, tree in TREES.items()}
+        for path, node in self.reached:
+            self.assertEqual(self.called(node) & others[path], set(), f"{path.name}:{node.lineno}")
+
+    def test_no_generator_is_gone_over(self):
+        makers = {node.name for node, _ in nodes(ast.FunctionDef)
+                  if any(isinstance(inner, (ast.Yield, ast.YieldFrom)) for inner in ast.walk(node))}
+        self.assertIn("up", makers)
+        for path, node in self.reached:
+            self.assertEqual(self.called(node) & makers, set(), f"{path.name}:{node.lineno}")
+            for inner in ast.walk(node):
+                self.assertNotIsInstance(inner, (ast.Yield, ast.YieldFrom, ast.GeneratorExp), f"{path.name}:{node.lineno}")
+
+
 if __name__ == "__main__":
     unittest.main()

@@ -35,6 +35,11 @@ def weight(answer):
     return 1
 
 
+def total_weight(answers):
+    """The sum of the weights of these answers."""
+    return sum([weight(answer) for answer in answers])
+
+
 def copied(answer):
     """The answer itself, or a new list of the same items."""
     return list(answer) if isinstance(answer, list) else answer

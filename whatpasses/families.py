@@ -52,15 +52,21 @@ class Family:
 
     def under(self, one, other):
         """Whether the class one is under the class other; a class is under itself."""
-        return other in list(self.up(one))
+        here = one
+        while here is not None and here != other:
+            here = self._directly_above(here)
+        return here is not None
 
     def up(self, name):
         """The class itself, then each class above it, up to the uppermost one."""
         here = name
         while here is not None:
             yield here
-            # A class that the family does not have counts as one directly under the uppermost one.
-            here = self._above.get(here, ROOT)
+            here = self._directly_above(here)
+
+    def _directly_above(self, name):
+        """The class that this one is directly under; a class that the family does not have counts as under ROOT."""
+        return self._above.get(name, ROOT)
 
     def __contains__(self, x):
         return isinstance(x, str) and x in self._above

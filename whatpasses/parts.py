@@ -1,7 +1,6 @@
 """Parts: which answer they give on which path."""
 
-from whatpasses.answers import copied, is_answer
-from whatpasses.answers import weight as weight_of
+from whatpasses.answers import copied, is_answer, total_weight
 from whatpasses.calls import is_path
 from whatpasses.errors import BadPart, Raised
 
@@ -39,7 +38,7 @@ class Part:
     @property
     def weight(self):
         """The sum of the weights of the entries."""
-        return sum([weight_of(answer) for answer in self._answers.values()])
+        return total_weight(list(self._answers.values()))
 
     def answer(self, *calls):
         """The answer to the last one of these calls, where the others were made before it."""
