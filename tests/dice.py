@@ -19,12 +19,13 @@ class Dice:
     def __init__(self, random):
         self.random = random
         self.pick = random.choice
+        self.calls = CALLS
 
     def chance(self, share):
         return self.random.random() < share
 
     def thing(self, lets):
-        return self.pick(sorted(lets)) if lets and self.chance(0.4) else self.pick(CALLS)
+        return self.pick(sorted(lets)) if lets and self.chance(0.4) else self.pick(self.calls)
 
     def atom(self, lets, item):
         if self.chance(0.15):
@@ -67,14 +68,14 @@ class Dice:
         if word == "tuple":
             return f'assert ( {self.condition(lets, item)} , {self.pick(CONSTANTS[-4:])} )'
         if word == "call":
-            return f"call {self.pick(CALLS)}"
+            return f"call {self.pick(self.calls)}"
         if word == "let":
             new = [name for name in NAMES if name not in lets]
             if not new:
                 return "pass"
             name = self.pick(new)
             lets.add(name)
-            return f"let {name} = {self.pick(CALLS)}"
+            return f"let {name} = {self.pick(self.calls)}"
         return word
 
     def rows(self, lets, item, depth, many):
@@ -153,3 +154,56 @@ class Dice:
             return [self.item() for _ in range(self.pick((0, 1, 1, 2, 2, 3, 6, 10)))]
         kinds = CLASSES + ("Strange",)
         return ("raises", self.pick(kinds), self.pick((None, None) + kinds))
+
+
+SHORT_CALLS = ("f()", "g(1)", "h()")
+
+
+class ShortDice:
+    """Makes short tests that ask much about few calls, so that all parts can be tried."""
+
+    def __init__(self, random, calls):
+        self.random, self.pick, self.calls = random, random.choice, SHORT_CALLS[:calls]
+
+    def thing(self, lets):
+        return self.pick(lets) if lets and self.random.random() < 0.5 else self.pick(self.calls)
+
+    def atom(self, lets):
+        thing, form = self.thing(lets), self.random.randrange(8)
+        if form == 0:
+            return f"len({thing}) {self.pick(('==', '>', '<'))} {self.random.randrange(3)}"
+        if form == 1:
+            return f"{thing} is {self.pick(('number', 'list', 'none'))}"
+        if form == 2:
+            return "on " + self.pick("pq")
+        if form == 3:
+            return f"{self.random.randrange(2)} in {thing}"
+        if form == 4:
+            return f"{thing}[0] == {self.random.randrange(2)}"
+        return f"{thing} {self.pick(('==', '!=', '=='))} {self.random.randrange(3)}"
+
+    def condition(self, lets):
+        atoms = [self.pick(("", "", "not ")) + self.atom(lets) for _ in range(self.pick((1, 1, 2, 2, 3)))]
+        return self.pick((" and ", " or ")).join(atoms)
+
+    def rows(self):
+        rows, lets = [], []
+        for _ in range(self.pick((1, 2, 3, 4))):
+            form = self.random.randrange(9)
+            if form == 0 and len(lets) < 3:
+                lets.append("xyz"[len(lets)])
+                rows.append(f"let {lets[-1]} = {self.pick(self.calls)}")
+            elif form == 1:
+                rows.append("set " + self.pick("pq"))
+            elif form == 2:
+                inner = ("set p", "clear q", "fail", "return", "skip", "assert " + self.condition(lets))
+                rows += ["if " + self.condition(lets), self.pick(inner), "end"]
+            elif form == 3:
+                inner = [self.pick(("if i == 1", "if on p")), self.pick(("set p", "break", "fail", "return")), "end"]
+                rows += ["for i in " + self.thing(lets), *inner, "end"]
+            elif form == 4:
+                rows += ["try", "assert " + self.condition(lets), "except " + self.pick(("Failed", "Misuse", "Full", "Error")),
+                         self.pick(("pass", "set p", "fail")), "end"]
+            else:
+                rows.append(self.pick(("assert ", "assert ", "assume ")) + self.condition(lets))
+        return rows

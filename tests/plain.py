@@ -72,6 +72,8 @@ class Plain:
     def __init__(self, lines, classes, first=0):
         self.lines, self.classes, self.at, self.first = lines, classes, first, first
         self.flags, self.calls, self.checks, self.shown, self.conditions = [], [], [], [], {}
+        # What asks about the answers to a call: (call, atom) and (call, row).
+        self.atoms, self.loops, self.classes_named, self.causes_named = [], [], set(), set()
         found = re.fullmatch(rf"test ({NAME})", self.line() or "")
         if not found:
             raise Refused(self.at)
@@ -102,6 +104,8 @@ class Plain:
             word = joined.split(" ")[0]
             if word in ends and (re.fullmatch(rf"except ({CLASS})", joined) if word == "except" else joined == word):
                 self.refuse_unless(word != "except" or joined.split(" ")[1] in self.classes)
+                if word == "except":
+                    self.classes_named.add(joined.split(" ")[1])
                 return rows, joined
             kinds = [kind for kind, shape in ROWS.items() if shape.fullmatch(joined)]
             self.refuse_unless(len(kinds) == 1)
@@ -115,6 +119,8 @@ class Plain:
             self.refuse_unless(depth < 6)
         if kind == "raises":
             self.refuse_unless(all(name in self.classes for name in groups[1:] if name))
+            self.classes_named.add(groups[1])
+            self.causes_named |= {groups[2]} - {None}
         if kind == "flag":
             self.mention_flag(groups[1])
         if kind in ("let", "for"):
@@ -126,11 +132,14 @@ class Plain:
         if kind in ("call", "let"):
             self.read_thing(groups[-1], {})
         if kind == "let":
-            names[groups[1]] = True
+            names[groups[1]] = pretty(groups[2])
         if kind == "tuple" or groups[0] in ("assert", "fail"):
             self.checks.append(line)
         self.show(depth + 1)
-        return (line, kind, groups, *self.read_rest(kind, groups, names, depth, item))
+        row = (line, kind, groups, *self.read_rest(kind, groups, names, depth, item))
+        if kind == "for":
+            self.loops.append((names.get(groups[2]) or pretty(groups[2]), row))
+        return row
 
     def read_rest(self, kind, groups, names, depth, item):
         """The rows of a block: a list of (heading, rows)."""
@@ -178,6 +187,7 @@ class Plain:
         found = re.match(rf"(?:len \( |{CONSTANT} in )?({THING})( \[ (?:[0-9]|-1) \](?! ,))?", atom)
         if item is None:
             self.read_thing(found.group(1), names)
+            self.atoms.append((names.get(found.group(1)) or pretty(found.group(1)), atom))
         else:
             whole = re.fullmatch(rf"({NAME})( (is|==|!=|<|<=|>|>=) .*)?", atom)
             self.refuse_unless(whole and whole.group(1) == item)
@@ -396,3 +406,66 @@ class PlainRun:
             return {type(None): "none", int: "number", str: "word", list: "list"}[type(value)] == right
         return compare(value, sign, value_of(right) if right[0] != "[" else
                        [value_of(text) for text in right[1:-1].strip().split(" , ") if text])
+
+
+class PlainLook(PlainRun):
+    """Asks what a test says about one answer that is no raised error."""
+
+    def __init__(self, plain, above, answer):
+        self.plain, self.above, self.fixed = plain, above, answer
+        self.flags, self.names, self.rows, self.calls, self.item = set(), {}, [], [], None
+
+    def value(self, text):
+        return self.fixed if self.item is None else self.item[0]
+
+    def look(self, atom):
+        try:
+            return self.atom(atom)
+        except Wrong as wrong:
+            return wrong.kind
+
+    def loop(self, row, flags):
+        """What a `for` block comes to, begun with these flags."""
+        self.flags = set(flags)
+        try:
+            self.execute([row])
+            return ("ends", sorted(self.flags))
+        except Leave:
+            return ("returns", sorted(self.flags))
+        except Skipped as skipped:
+            return ("skips", skipped.line)
+        except Wrong as wrong:
+            return (wrong.kind, wrong.line, sorted(self.flags))
+
+
+def plain_look(plains, above, call, answer):
+    """All that point 16 asks of an answer, so that alike answers give equal lists."""
+    if isinstance(answer, tuple):
+        run = PlainLook(None, above, None)
+        kinds = [name for plain in plains for name in sorted(plain.classes_named)]
+        causes = [name for plain in plains for name in sorted(plain.causes_named)]
+        return ["raised", [run.under(answer[1], name) for name in kinds],
+                [answer[2] is not None and run.under(answer[2], name) for name in causes]]
+    told = ["value"]
+    for plain in plains:
+        look = PlainLook(plain, above, answer)
+        told += [look.look(atom) for other, atom in plain.atoms if other == call]
+        for number in range(2 ** len(plain.flags)):
+            flags = [flag for at, flag in enumerate(plain.flags) if number >> at & 1]
+            told += [look.loop(row, flags) for other, row in plain.loops if other == call]
+    return told
+
+
+def plain_order(places, answer):
+    """The order of point 6 as a key of plain values."""
+    def item_place(item):
+        if item is None:
+            return (0, 0, 0, "")
+        return (1, abs(item), item < 0, "") if isinstance(item, int) else (2, len(item), 0, item)
+
+    if isinstance(answer, list):
+        return (4, len(answer), [item_place(item) for item in answer])
+    if isinstance(answer, tuple):
+        return (3, *[(-1, "") if name is None else (places.get(name, 99), "" if name in places else name)
+                     for name in answer[1:]])
+    return item_place(answer)

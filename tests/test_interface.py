@@ -8,6 +8,14 @@ FUNCTIONS = {
     "answers": {"is_item": "(thing)", "is_answer": "(thing)", "weight": "(answer)", "ascending": "(family, *answers)"},
     "calls": {"call_text": "(name, *values)", "is_call": "(thing)", "is_path": "(thing, *, ageing=False)"},
     "runs": {"run": "(test, part)", "trace": "(test, part)"},
+    "finding": {"find": "(demands, *, ageing=False)", "ways": "(tests, *, ageing=False)"},
+    "trees": {
+        "is_tree": "(demands, thing, *, ageing=False)", "is_certificate": "(demands, thing, *, ageing=False)",
+    },
+    "judging": {
+        "judge": "(suite, test, *, ageing=False)", "forces": "(suite, test, *, ageing=False)",
+        "wrong_parts": "(suite, test, *, ageing=False, limit=None)",
+    },
 }
 CLASSES = {
     "families": {
@@ -39,8 +47,15 @@ CLASSES = {
             "__eq__": "(self, other)", "__contains__": "(self, x)", "__and__": "(self, other)",
         },
     },
+    "surveys": {
+        "Survey": {
+            "__init__": "(self, tests)", "calls": "(self)", "answers": "(self, call)", "least": "(self, call, answer)",
+            "alike": "(self, call, one, other)",
+        },
+    },
+    "finding": {"Verdict": {"__bool__": "(self)", "part": "(self)", "weight": "(self)"}},
 }
-PROPERTIES = {("Part", "entries"), ("Part", "weight")}
+PROPERTIES = {("Part", "entries"), ("Part", "weight"), ("Verdict", "part"), ("Verdict", "weight")}
 CLASS_METHODS = {("Test", "read"), ("Suite", "read")}
 
 
