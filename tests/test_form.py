@@ -214,6 +214,34 @@ class Code(unittest.TestCase):
                 if isinstance(sign, (ast.Is, ast.IsNot)):
                     self.assertIsInstance(side, ast.Constant, place)
 
+    def test_stars_in_calls(self):
+        plain = (ast.Name, ast.Attribute, ast.Constant, ast.List, ast.Tuple, ast.Dict, ast.Load)
+        for node, place in nodes(ast.Call):
+            for star in node.args:
+                for inner in ast.walk(star.value) if isinstance(star, ast.Starred) else []:
+                    self.assertIsInstance(inner, plain, place)
+
+    def test_generator_expressions(self):
+        self.assertEqual([place for _, place in nodes(ast.GeneratorExp)], [])
+
+    def test_sets_stand_where_they_may(self):
+        for node, place in nodes((ast.Assign, ast.Return)):
+            value = node.value
+            made = isinstance(value, (ast.Set, ast.SetComp))
+            made = made or isinstance(value, ast.Call) and getattr(value.func, "id", "") == "set"
+            self.assertFalse(made, place)
+
+    def test_keywords_of_builtins(self):
+        allowed = {"sorted": {"key", "reverse"}, "min": {"key", "default"}, "max": {"key", "default"}, "sum": {"start"},
+                   "enumerate": {"start"}, "zip": {"strict"}}
+        for node, place in nodes(ast.Call):
+            if isinstance(node.func, ast.Name) and node.func.id in BUILTINS:
+                self.assertLessEqual({keyword.arg for keyword in node.keywords}, allowed.get(node.func.id, set()), place)
+
+    def test_raises_create_their_errors(self):
+        for node, place in nodes(ast.Raise):
+            self.assertTrue(node.exc is None or isinstance(node.exc, ast.Call) and isinstance(node.exc.func, ast.Name), place)
+
     def test_no_async_no_global(self):
         kinds = (ast.Global, ast.AsyncFunctionDef, ast.AsyncFor, ast.AsyncWith, ast.Await)
         self.assertEqual(list(nodes(kinds)), [])

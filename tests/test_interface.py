@@ -16,6 +16,14 @@ FUNCTIONS = {
         "judge": "(suite, test, *, ageing=False)", "forces": "(suite, test, *, ageing=False)",
         "wrong_parts": "(suite, test, *, ageing=False, limit=None)",
     },
+    "checks": {
+        "check": "(suite, name, line, *, ageing=False)", "all_checks": "(suite, *, ageing=False)",
+        "listing": "(suite, *, ageing=False)",
+    },
+    "comparing": {"compare": "(one, other, *, ageing=False)"},
+    "choosing": {
+        "fewest": "(base, pool, wishes, *, ageing=False)", "fewest_to_keep": "(suite, *, ageing=False)",
+    },
 }
 CLASSES = {
     "families": {
@@ -54,8 +62,25 @@ CLASSES = {
         },
     },
     "finding": {"Verdict": {"__bool__": "(self)", "part": "(self)", "weight": "(self)"}},
+    "checks": {"Check": {"__bool__": "(self)"}},
+    "comparing": {"Comparison": {"__bool__": "(self)"}},
+    "choosing": {"Choice": {"__bool__": "(self)", "__len__": "(self)"}},
+    "desks": {
+        "Deed": {"done": "(self, suite)", "__str__": "(self)"},
+        "Add": {"__init__": "(self, test)", "done": "(self, suite)", "__str__": "(self)"},
+        "Drop": {"__init__": "(self, name)", "done": "(self, suite)", "__str__": "(self)"},
+        "Soften": {"__init__": "(self, name, line)", "done": "(self, suite)", "__str__": "(self)"},
+        "Swap": {"__init__": "(self, name, test)", "done": "(self, suite)", "__str__": "(self)"},
+        "Desk": {
+            "__init__": "(self, suite)", "suite": "(self)", "depth": "(self)", "run": "(self, *deeds)",
+            "trial": "(self, *deeds)", "undo": "(self)",
+        },
+    },
 }
-PROPERTIES = {("Part", "entries"), ("Part", "weight"), ("Verdict", "part"), ("Verdict", "weight")}
+PROPERTIES = {
+    ("Part", "entries"), ("Part", "weight"), ("Verdict", "part"), ("Verdict", "weight"), ("Desk", "suite"),
+    ("Desk", "depth"),
+}
 CLASS_METHODS = {("Test", "read"), ("Suite", "read")}
 
 
