@@ -130,6 +130,13 @@ class Words(Base):
         one = check(Suite(FAMILY, test("a", "raises Failed", "assert f() != 1", "end")), "a", 2)
         self.assertEqual((one.word, one.example), ("needed", Part.steady({"f()": 1})))
 
+    def test_the_lighter_one_of_two_examples(self):
+        for more, less in (("assert h() == [1, 1]", "assert g() == 2"), ("assert h() == 2", "assert g() == [1, 1]")):
+            # As it is, the suite is passed by way of h(), softened by way of g().
+            one = test("a", "try", "assert f() == 1", "except Failed", more, "else", less, "end")
+            self.assertEqual(self.words([one]), ["needed", "needed", "needed"])
+            self.assertEqual(check(Suite(FAMILY, one), "a", 2).example.weight, 1)
+
     def test_steady_and_ageing(self):
         tests = [test("a", "assert f() == 1", "assert f() == 1"), test("b", "assert f() != 2")]
         self.assertEqual(self.words(tests), ["idle", "true", "idle"])

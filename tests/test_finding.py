@@ -184,6 +184,24 @@ class Finding(unittest.TestCase):
             self.assertFalse(self.check((one, "fails", 4), (one, "not passes", 2), ageing=ageing))
 
 
+    def test_answers_that_several_tests_need(self):
+        """What one test needs beyond a call is not counted again where another one has asked for it."""
+        tests = [
+            test("a", "set q", "assume f() != 1 or not on q", "try", "assert len(f()) > 0 or f() != 1", "except Failed", "set p", "end"),
+            test("b", "if 1 in f() or f() == 2", "return", "end"), test("c", "if not f() == 1", "set p", "end"),
+        ]
+        self.assertEqual(self.check(*passes(*tests), ageing=True).weight, 2)
+        tests = [
+            test("a", "assert on q and not 1 in g(1)"),
+            test("b", "assert on q and not len(g(1)) > 2 and not g(1) == 0"),
+            test("c", "set q", "if g(1) is none and f() != 0", "set p", "end"),
+            test("d", "try", "assert not g(1) != 1 or not len(g(1)) == 1", "except Failed", "pass", "end", "let x = f()"),
+            test("e", "assert not 1 in g(1) or not 1 in g(1)", "for i in f()", "if on p", "set p", "end", "end"),
+        ]
+        words = ("not passes", "fails", "not passes", "passes", "not passes")
+        self.assertEqual(self.check(*[(each, word, None) for each, word in zip(tests, words)], ageing=True).weight, 1)
+
+
 class LargeTests(unittest.TestCase):
     """As large as the bounds behind point 19 allow."""
 

@@ -337,6 +337,8 @@ class Least(unittest.TestCase):
         self.assertEqual(survey("assert f() != 0 and f() != 1 and f() is number").answers("f()"), [None, 0, 1, -1, error("Error")])
         self.assertEqual(survey("assert f() > -1 and f() < 2 and f() != 0").answers("f()"), [None, 0, 1, -1, 2, error("Error")])
         self.assertEqual(survey("assert f() < -3").answers("f()"), [None, 0, -4, error("Error")])
+        self.assertEqual(survey("assert f() < 0 and f() != -1 and f() != -2").answers("f()"), [None, 0, -1, -2, -3, error("Error")])
+        self.assertEqual(survey("assert f() > 4 and f() != 5 and f() != 6").answers("f()"), [None, 0, 5, 6, 7, error("Error")])
 
     def test_words(self):
         self.assertEqual(survey('assert f() == "a" or f() is word').answers("f()"), [None, "", "a", error("Error")])

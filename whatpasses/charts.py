@@ -28,13 +28,13 @@ def place_of(spot):
 
 
 class Chart:
-    """The nodes of one test. If rows are told apart, nodes that are reached by different rows are different ones."""
+    """The nodes of one test; if it is by rows, nodes that are reached by different rows are different ones."""
 
-    def __init__(self, survey, test, ageing, rows):
+    def __init__(self, survey, test, ageing, by_rows):
         self.survey = survey
         self.test = test
         self.ageing = ageing
-        self.rows = rows
+        self.by_rows = by_rows
         # Equal tests ask the same, so the survey has one of them.
         self._at = survey.tests.index(test)
         self._nodes = {}
@@ -57,7 +57,7 @@ class Chart:
 
     def _key(self, spot):
         """What tells nodes apart; what happens behind spots of the same node depends on the answers alone."""
-        rows = spot.rows if self.rows else ()
+        rows = spot.rows if self.by_rows else ()
         if not self.ageing or spot.way is not None:
             return (place_of(spot), rows)
         return (place_of(spot), rows, spot.number, spot.made, tuple(sorted(list(spot.lets.items()))))

@@ -35,6 +35,7 @@ class Verdict:
     def __init__(self, certificate, part):
         self.certificate = certificate
         self._part = part
+        self._weight = None if part is None else part.weight
 
     def __bool__(self):
         return self._part is not None
@@ -47,7 +48,7 @@ class Verdict:
     @property
     def weight(self):
         """The weight of the part, or None."""
-        return None if self._part is None else self._part.weight
+        return self._weight
 
 
 def find(demands, *, ageing=False):

@@ -77,9 +77,8 @@ class Growth:
         )
 
 
-def least_lists(looks):
+def least_lists(growth):
     """The least list of each class of alike ones, ascending: a dict from what is shown of them."""
-    growth = Growth(looks)
     found = {}
     seen = {growth.start(): True}
     rows = [([], growth.start())]
@@ -87,7 +86,7 @@ def least_lists(looks):
     while rows:
         longer = []
         for items, state in rows:
-            found.setdefault(looks.view_of_list(items, state[-1]), items)
+            found.setdefault(growth.looks.view_of_list(items, state[-1]), items)
             for option in growth.options(place):
                 grown = growth.grown(state, option)
                 if grown not in seen:

@@ -2,8 +2,8 @@
 
 A box says which answers a part can give: a dict from paths to sets of least answers; for other paths all are allowed.
 A reason is a box, too: what was found out holds for all parts in it. A proof is the number of a goal that no part in
-its box reaches, or a pair of a path and a list of pairs (set, proof) for the answers to it; it is None where parts are
-only too heavy.
+its box reaches, or a pair of a path and a list of pairs (set, proof) for the answers to it. Where parts are only too
+heavy, there is None in its place; this comes only behind a bound, so not where no part is found at all.
 """
 
 from whatpasses.goals import MISSED, OPEN, apart
@@ -59,8 +59,6 @@ class Frame:
             reason[self.path] = self.covered
         if len(self.proofs) == 1:
             return reason, self.proofs[0][1]
-        if any([proof is None for _, proof in self.proofs]):
-            return reason, None
         return reason, (self.path, self.proofs)
 
 
@@ -210,7 +208,7 @@ class Search:
         for numbers in groups:
             first, known = self._group(stand, numbers, self.bound, True)
             if first.found is None:
-                return (self._as_before(stand), None) if known[1] is None else known
+                return known
             firsts.append(first)
         heaviness = stand.heaviness + sum([first.bound - stand.heaviness for first in firsts])
         enough = self.quick and (self.bound is None or heaviness < self.bound)

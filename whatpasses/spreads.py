@@ -33,12 +33,13 @@ class Spread:
     def __init__(self, looks, raisings):
         self.looks = looks
         self.raisings = raisings
+        growth = Growth(looks)
         firsts = {}
-        for item in Growth(looks).samples:
+        for item in growth.samples:
             firsts.setdefault(looks.view(item), item)
         for answer in raisings.least_raised():
             firsts[raisings.view(answer)] = answer
-        for view, answer in least_lists(looks).items():
+        for view, answer in least_lists(growth).items():
             firsts.setdefault(view, answer)
         self.leasts = list(firsts.values())
         self.full = (1 << len(self.leasts)) - 1

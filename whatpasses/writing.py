@@ -67,13 +67,13 @@ def tree_of(survey, proof):
                 sketches.append((own, inner))
             continue
         sketches.pop()
-        tree = top.written(survey.spread(top.path[-1]))
-        if not sketches:
-            return tree
-        above = sketches[-1][1]
-        if above.path == top.path:
+        above = sketches[-1][1] if sketches else None
+        if above is not None and above.path == top.path:
             # Splits by the same path, one within the other, are one split.
             for own, inner in top.cases:
                 above.take(own, inner)
-        else:
-            above.take(mask, tree)
+            continue
+        tree = top.written(survey.spread(top.path[-1]))
+        if above is None:
+            return tree
+        above.take(mask, tree)
