@@ -40,6 +40,7 @@ class Chart:
         self._nodes = {}
         self._edges = {}
         self._splits = {}
+        self._raised = {}
 
     def first(self):
         """The node at which the test begins."""
@@ -84,7 +85,7 @@ class Chart:
                 learned = reply(self.test.family, spot.row, spot.step, spot.flags, spread.leasts[lowest(mask)])
                 sets[learned] = sets.get(learned, 0) | mask
             splits = [(mask, learned) for learned, mask in sets.items()]
-            self._splits[node.place] = [*splits, *self._raised_at(spot, spread)]
+            self._splits[node.place] = [*splits, *self._raised_at(spot.row, node.path[-1])]
         return self._splits[node.place]
 
     def _sorts_at(self, spot, spread):
@@ -96,14 +97,17 @@ class Chart:
             return spread.sorts(column_of(row.literals[spot.step].atom))
         return [spread.unraised]
 
-    def _raised_at(self, spot, spread):
-        """The sets of raised errors that lead to the same row or end, each with one of them."""
-        sets = {}
-        for number in spread.raised:
-            answer = spread.leasts[number]
-            _, kind, cause = answer
-            target, way = landed(self.test.family, spot.row, failure(spot.row, kind, cause))
-            key = way[:2] if target is None else target.line
-            mask, first = sets.get(key, (0, answer))
-            sets[key] = (mask | 1 << number, first)
-        return list(sets.values())
+    def _raised_at(self, row, call):
+        """The sets of raised errors that lead from a row to the same one or the same end, each with one of them."""
+        if (row.line, call) not in self._raised:
+            spread = self.survey.spread(call)
+            sets = {}
+            for number in spread.raised:
+                answer = spread.leasts[number]
+                _, kind, cause = answer
+                target, way = landed(self.test.family, row, failure(row, kind, cause))
+                key = way[:2] if target is None else target.line
+                mask, first = sets.get(key, (0, answer))
+                sets[key] = (mask | 1 << number, first)
+            self._raised[(row.line, call)] = list(sets.values())
+        return self._raised[(row.line, call)]
