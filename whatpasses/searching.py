@@ -34,7 +34,8 @@ class Frame:
         self.branches = branches
         self.left = allowed
         self.covered = 0
-        self.reason = {}
+        # The reason as far as other paths are concerned.
+        self.elsewhere = {}
         self.proofs = []
 
     def take(self, reason, proof):
@@ -42,7 +43,7 @@ class Frame:
         covers = reason.get(self.path, self.full)
         if self.allowed & ~covers == 0:
             # The answer for the path does not matter, so nothing else that was found out here is needed.
-            self.reason = {}
+            self.elsewhere = {}
             self.proofs = []
             self.covered = 0
         self.covered = self.covered | covers
@@ -50,11 +51,11 @@ class Frame:
         self.proofs.append((covers, proof))
         for path, mask in reason.items():
             if path != self.path:
-                self.reason[path] = self.reason.get(path, mask) & mask
+                self.elsewhere[path] = self.elsewhere.get(path, mask) & mask
 
     def conclusion(self):
         """What was found out about all parts of the stand: a reason and a proof."""
-        reason = {path: mask for path, mask in self.reason.items()}
+        reason = {path: mask for path, mask in self.elsewhere.items()}
         if self.covered != self.full:
             reason[self.path] = self.covered
         if len(self.proofs) == 1:

@@ -70,7 +70,8 @@ def tree_of(survey, proof):
         above = sketches[-1][1] if sketches else None
         if above is not None and above.path == top.path:
             # Splits by the same path, one within the other, are one split.
-            for own, inner in top.cases:
+            cases = list(top.cases)
+            for own, inner in cases:
                 above.take(own, inner)
             continue
         tree = top.written(survey.spread(top.path[-1]))
