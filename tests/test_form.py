@@ -344,5 +344,97 @@ class Reached(unittest.TestCase):
                 self.assertNotIsInstance(inner, (ast.Yield, ast.YieldFrom, ast.GeneratorExp), f"{path.name}:{node.lineno}")
 
 
+ADDING = ("append", "extend", "insert")
+LOOPS = (ast.For, ast.ListComp, ast.SetComp, ast.DictComp, ast.GeneratorExp)
+
+
+def names_of(value):
+    """The plain names whose very value this may be."""
+    if isinstance(value, ast.Name):
+        return {value.id}
+    parts = [value.body, value.orelse] if isinstance(value, ast.IfExp) else getattr(value, "values", [])
+    return set().union(*[names_of(part) for part in parts]) if isinstance(value, (ast.IfExp, ast.BoolOp)) else set()
+
+
+def walked_by(loop):
+    """The plain names that a loop or comprehension goes over, also through what gives the items of another."""
+    found = set()
+    for value in [loop.iter] if isinstance(loop, ast.For) else [part.iter for part in loop.generators]:
+        inner = [value]
+        if isinstance(value, ast.Call) and getattr(value.func, "id", "") in ("enumerate", "zip", "reversed"):
+            inner = value.args
+        found = found.union(*[names_of(part) for part in inner])
+    return found
+
+
+def added_to(loop):
+    """The plain names of the lists to which a loop adds something."""
+    found = set()
+    for node in ast.walk(loop):
+        if isinstance(node, ast.Call) and isinstance(node.func, ast.Attribute) and node.func.attr in ADDING:
+            found |= names_of(node.func.value)
+        elif isinstance(node, ast.AugAssign):
+            found |= names_of(node.target)
+    return found
+
+
+def given_to(function):
+    """For each plain name those whose very value a function assigns to it."""
+    found = {}
+    for node in ast.walk(function):
+        for target in node.targets if isinstance(node, ast.Assign) else []:
+            pairs = [(target, node.value)]
+            if isinstance(target, ast.Tuple) and isinstance(node.value, ast.Tuple):
+                pairs = zip(target.elts, node.value.elts)
+            for one, value in pairs:
+                if isinstance(one, ast.Name):
+                    found.setdefault(one.id, set()).update(names_of(value))
+    return found
+
+
+def loops_that_add_to_what_they_walk(tree):
+    """The lines of loops that add to a list that, from the names alone, may be the one that they go over."""
+    lines = []
+    for function in [node for node in ast.walk(tree) if isinstance(node, ast.FunctionDef)]:
+        given = given_to(function)
+        for loop in [node for node in ast.walk(function) if isinstance(node, LOOPS)]:
+            same, waiting = set(), sorted(walked_by(loop))
+            while waiting:
+                name = waiting.pop()
+                if name not in same:
+                    same.add(name)
+                    waiting.extend(given.get(name, ()))
+            if same & added_to(loop):
+                lines.append(loop.lineno)
+    return lines
+
+
+class Walked(unittest.TestCase):
+    """No loop adds to a list that is also assigned to the name that it goes over."""
+
+    def lines(self, head, *then, adds="longer.append(row)"):
+        rows = ["def f(rows):", "    while rows:", "        longer = []", f"        for row in {head}:", f"            {adds}"]
+        return loops_that_add_to_what_they_walk(ast.parse("\n".join([*rows, *["        " + row for row in then]])))
+
+    def test_the_package(self):
+        for path, tree in TREES.items():
+            self.assertEqual(loops_that_add_to_what_they_walk(tree), [], path)
+
+    def test_forms_that_are_refused(self):
+        for head in ("rows", "enumerate(rows)", "reversed(rows)", "zip(longer[1:], rows)", "rows or ()", "a if a else rows"):
+            self.assertEqual(self.lines(head, "rows = longer"), [4], head)
+        for then in (["rows = longer or []"], ["rows = [] if rows else longer"], ["rows, many = longer, 1"],
+                     ["next_ones = longer", "rows = next_ones"], ["kept = rows = longer"]):
+            self.assertEqual(self.lines("rows", *then), [4], then)
+        for adds in ("longer.extend(row)", "longer.insert(0, row)", "longer += row", "rows.append(row)"):
+            self.assertEqual(self.lines("rows", "rows = longer", adds=adds), [4], adds)
+        self.assertEqual(self.lines("list(rows)", "rows = longer", adds="[longer.append(one) for one in rows]"), [5])
+
+    def test_forms_that_are_allowed(self):
+        self.assertEqual(self.lines("list(rows)", "rows = longer"), [])
+        for then in ([], ["rows = list(longer)"], ["rows = [*longer]"], ["rows, many = list(longer), longer"]):
+            self.assertEqual(self.lines("rows", *then), [], then)
+
+
 if __name__ == "__main__":
     unittest.main()

@@ -379,6 +379,20 @@ class Least(unittest.TestCase):
         self.assertEqual(survey("assert f() == []", "assert f() == [1, 2, 3, 4, 5, 6]", "assert 6 in f()").answers("f()"),
                          [None, error("Error"), [], [None], [6], [1, 2, 3, 4, 5, 6]])
 
+    def test_lists_of_several_lengths(self):
+        found = survey("assert len(f()) > 2 and f()[0] == 5", "for x in f(1)", "if x == 1", "set a", "end", "end",
+                       "call g()", "assert h() is list", "assert len(k()) < 2 and 7 in k()")
+        self.assertEqual(found.answers("f()"), [
+            None, error("Error"), [], [None], [5], [None, None, None], [5, None, None]])
+        self.assertEqual(found.answers("f(1)"), [None, error("Error"), [], [1]])
+        self.assertEqual(found.answers("k()"), [None, error("Error"), [], [7], [None, None], [None, 7]])
+        # Where nothing is asked, a list is like None; where only its kind is, all lists are like the empty one.
+        self.assertEqual(found.answers("g()"), [None, error("Error")])
+        self.assertEqual(found.answers("h()"), [None, error("Error"), []])
+        self.assertEqual(found.least("h()", [1, 2, 3]), [])
+        with self.assertRaises(NoCall):
+            found.answers("g(1)")
+
     def test_a_long_list_that_is_wanted(self):
         found = survey("assert len(f()) == 20 and f()[9] == 4 and f()[-1] == 7 and 8 in f()")
         wanted = [None] * 9 + [4] + [None] * 8 + [8, 7]

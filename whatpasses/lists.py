@@ -85,7 +85,7 @@ def least_lists(growth):
     place = 0
     while rows:
         longer = []
-        for items, state in rows:
+        for items, state in list(rows):
             found.setdefault(growth.looks.view_of_list(items, state[-1]), items)
             for option in growth.options(place):
                 grown = growth.grown(state, option)
